@@ -1,0 +1,1 @@
+"""Roundtold: what one can come to say of a ring without a mark."""
