@@ -1,33 +1,12 @@
 """QUESTIONS: machines that answer each WORD, compared and made from others."""
 
-from roundtold.errors import CanNot, Unfit
-from roundtold.values import GREATEST_WIDE, is_number, is_place
-
-
-def are_states(thing, wide, many):
-    """Whether thing is a tuple of wide numbers of so many STATES."""
-    return isinstance(thing, tuple) and len(thing) == wide and all(is_place(state, many) for state in thing)
-
-
-def are_steps(thing):
-    """Whether thing may be the steps of a QUESTION."""
-    if not isinstance(thing, tuple) or len(thing) == 0 or not isinstance(thing[0], tuple):
-        return False
-    wide = len(thing[0])
-    return 1 <= wide <= GREATEST_WIDE and all(are_states(row, wide, len(thing)) for row in thing)
-
-
-def are_answers(thing, many):
-    """Whether thing may be the answers of so many STATES."""
-    return isinstance(thing, tuple) and len(thing) == many and all(is_number(own) and own >= 0 for own in thing)
+from roundtold.errors import CanNot, TooMuch, Unfit
+from roundtold.values import is_answer, is_machine, is_place
 
 
 def is_question(thing):
     """Whether thing is a QUESTION."""
-    if not isinstance(thing, tuple) or len(thing) != 2:
-        return False
-    steps, answers = thing
-    return are_steps(steps) and are_answers(answers, len(steps))
+    return is_machine(thing, is_place, is_answer)
 
 
 def wide_of(question):
@@ -35,13 +14,16 @@ def wide_of(question):
     return len(question[0][0])
 
 
-def state_after(question, word):
-    """The STATE to which word leads from STATE 0."""
-    steps = question[0]
-    state = 0
+def led(steps, state, word):
+    """The STATE to which word leads from this STATE."""
     for letter in word:
         state = steps[state][letter - 1]
     return state
+
+
+def state_after(question, word):
+    """The STATE to which word leads from STATE 0."""
+    return led(question[0], 0, word)
 
 
 def answer(question, word):
@@ -51,10 +33,10 @@ def answer(question, word):
     return question[1][state_after(question, word)]
 
 
-def come_to(start, wide, follow):
+def come_to(start, wide, follow, most=None):
     """The pair of all that letters lead to from start, ordered by least WORDS, and the steps between their places.
 
-    follow(thing, index) is where the letter index + 1 leads from thing.
+    follow(thing, index) is where the letter index + 1 leads from thing. TooMuch if there are more than most.
     """
     found = [start]
     places = {start: 0}
@@ -65,6 +47,9 @@ def come_to(start, wide, follow):
             if thing not in places:
                 places[thing] = len(found)
                 found.append(thing)
+        # Looked at on the way: all that there is may be too much to be found.
+        if most is not None and len(found) > most:
+            raise TooMuch()
         steps.append(tuple(places[thing] for thing in row))
     return found, tuple(steps)
 

@@ -11,3 +11,31 @@ def is_number(thing):
 def is_place(thing, many):
     """Whether thing is the number of one of so many places."""
     return is_number(thing) and 0 <= thing < many
+
+
+def is_answer(thing):
+    """Whether thing is an ANSWER."""
+    return is_number(thing) and thing >= 0
+
+
+def is_tuple_of(thing, many, is_part):
+    """Whether thing is a tuple of so many parts for each of which is_part(part) is True."""
+    return isinstance(thing, tuple) and len(thing) == many and all(is_part(part) for part in thing)
+
+
+def are_steps(thing, is_step):
+    """Whether thing is a tuple, not (), of tuples of as many steps, 1 to 3; is_step(step, many STATES) tells of one."""
+    if not isinstance(thing, tuple) or len(thing) == 0 or not isinstance(thing[0], tuple):
+        return False
+    many, wide = len(thing), len(thing[0])
+    return 1 <= wide <= GREATEST_WIDE and all(
+        is_tuple_of(row, wide, lambda step: is_step(step, many)) for row in thing
+    )
+
+
+def is_machine(thing, is_step, is_told):
+    """Whether thing is a pair of steps and, for each STATE, something for which is_told is True."""
+    if not isinstance(thing, tuple) or len(thing) != 2:
+        return False
+    steps, told = thing
+    return are_steps(steps, is_step) and is_tuple_of(told, len(steps), is_told)

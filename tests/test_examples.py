@@ -1,11 +1,16 @@
 """The examples of the document, as they stand there."""
 
+import builtins
+import doctest
 import importlib
+import pathlib
 import unittest
 
 from tests.helper import Case
 
-FILES = ("errors", "rings", "questions")
+FILES = (
+    "errors", "rings", "questions", "doings", "answerable", "walkers", "still",
+)
 
 # Sections in the document's order: a name is that of the nearest example before it that sets it.
 RINGS = """
@@ -47,7 +52,91 @@ QUESTIONS = """
     raises Unfit()
 """
 
-SECTIONS = (RINGS, QUESTIONS)
+DOINGS = """
+    >>> greatest, two = (((0, 1, 2), (1, 1, 2), (2, 2, 2)), (0, 1, 0)), (((1,), (2,), (2,)), (0, 0, 1))
+    >>> doing_of(greatest, (1, 2, 1)), doing_of(twice, (1, 1)), then((1, 2, 2), (0, 0, 1)), doings(odd), word_for(greatest, (2, 2, 2))
+    ((1, 1, 2), (0, 1), (0, 1, 1), ((0, 1), (1, 0)), (3,))
+    >>> lots(greatest), lots(odd), lots(first), lots(two)
+    ((((0, 1, 2),), ((1, 1, 2),), ((2, 2, 2),)), (((0, 1), (1, 0)),), (((1, 1, 2), (2, 1, 2)),), (((1, 2, 2),), ((2, 2, 2),)))
+    >>> is_under(greatest, (2, 2, 2), (1, 1, 2)), is_under(greatest, (1, 1, 2), (2, 2, 2)), is_under(odd, (0, 1), (1, 0)), lot_of(two, (2, 2, 2))
+    (True, False, True, 1)
+    >>> lots_under(greatest, 1), firm_lots(two), is_firm(two, 0), ring_lot(two, (1,)), ring_lot(greatest, (2, 1)), ring_lot(first, (2, 1))
+    ((1, 2), (1,), False, 1, 1, 0)
+    >>> [least_ring(greatest, own) for own in (0, 1, 2)], least_ring(two, 1)
+    ([(1,), (2,), (3,)], (1,))
+    >>> word_for(some, (0, 0))
+    raises CanNot()
+    >>> lots_under(some, 2)
+    raises NoPlace(place=2)
+    >>> least_ring(two, 0)
+    raises Unfit()
+"""
+
+ANSWERABLE = """
+    >>> some, greatest = (((0, 1), (1, 1)), (0, 1)), (((0, 1, 2), (1, 1, 2), (2, 2, 2)), (0, 1, 0))
+    >>> odd, first = (((0, 1), (1, 0)), (0, 1)), (((1, 2), (1, 1), (2, 2)), (0, 1, 0))
+    >>> [is_open(own) for own in (some, greatest, odd, first)], [is_of_rings(own) for own in (some, odd, first)], [needs_mark(own) for own in (some, odd, first)]
+    ([True, True, False, False], [True, True, False], [False, True, False])
+    >>> is_flaw(odd, ("power", (2,), 2)), is_flaw(odd, ("power", (2,), 3)), is_flaw(first, ("turn", (1,), (2,))), is_flaw(some, ("turn", (1,), (2,))), is_flaw(odd, ("power", (2,), 10 ** 30))
+    (True, False, True, False, True)
+    >>> is_flaw(odd, flaw(odd)), is_flaw(first, flaw(first)), flaw(first)[0], flaw(odd)[0]
+    (True, True, 'turn', 'power')
+    >>> lot_answers(some), lot_answers(greatest), ring_answer(greatest, (1, 2, 1)), ring_answer(greatest, (3, 2))
+    ((0, 1), (0, 1, 0), 1, 0)
+    >>> opened(odd), opened(greatest) == greatest
+    ((((0, 0),), (0,)), True)
+    >>> flaw(some)
+    raises CanNot()
+    >>> lot_answers(odd)
+    raises Unfit()
+    >>> opened(first)
+    raises Unfit()
+"""
+
+WALKERS = """
+    >>> seeker = ((((1, 1), (2, 1)), ((1, 1), (2, 1)), ((2, 1), (2, 1))), (None, 0, 1))
+    >>> is_walker(seeker), is_walker(((((1, 1),),), (0,))), is_walker((((),), (0,))), wide_walked(seeker), goes_on(seeker)
+    (True, False, False, 2, True)
+    >>> played(seeker, (1, 2, 1), 0, 4), words(seeker, (1, 2, 1), 0, 4), said_after(seeker, (1, 1), 1, 10 ** 30)
+    (((1, 1, 0), (2, 2, 1), (0, 2, 1), (1, 2, 1)), (0, 1), 0)
+    >>> settled(seeker, (1, 2, 1), 0), all_words(seeker, (1, 2, 1), 0), [settles_behind(seeker, (1, 2, 1), room) for room in range(3)], said_after(seeker, (2,), 0, 0)
+    (1, (0, 1), [2, 1, 3], None)
+    >>> turner = ((((0, -1), (1, 1)), ((1, 1), (0, -1))), (None, 3))
+    >>> played(turner, (1, 2, 1), 0, 6), settled(turner, (1, 2, 1), 0), settles_behind(turner, (1, 2, 1), 0)
+    (((2, 0, None), (1, 0, None), (2, 1, 3), (0, 1, 3), (1, 1, 3), (0, 0, 3)), 3, 3)
+    >>> settled(turner, (1, 1), 0), all_words(turner, (1, 1), 0), settles_behind(turner, (1, 1), 0), goes_on(turner), mirrored_walker(turner)[0][0]
+    (None, (), 0, False, ((0, 1), (1, -1)))
+    >>> swing_round = ((((1, 1),), ((0, 1),)), (0, 1))
+    >>> words(swing_round, (1,), 0, 5), said_after(swing_round, (1,), 0, 10 ** 30), said_after(swing_round, (1,), 0, 10 ** 30 - 1)
+    ((1, 0, 1, 0, 1), 0, 1)
+    >>> settled(swing_round, (1,), 0)
+    raises CanNot()
+    >>> played(seeker, (1, 2, 1), 3, 1)
+    raises NoPlace(place=3)
+"""
+
+STILL = """
+    >>> some, greatest = (((0, 1), (1, 1)), (0, 1)), (((0, 1, 2), (1, 1, 2), (2, 2, 2)), (0, 1, 0))
+    >>> side = (((1, 3), (1, 2), (1, 5), (4, 5), (4, 3), (5, 5)), (0, 0, 0, 1, 0, 1))
+    >>> lots_left(some, ((1, 1),)), lots_left(some, ((1,), (1, 2))), lots_left(greatest, ((),)), lots_left(greatest, ((2, 1),)), answers_left(greatest, ((1,), (2,)))
+    ((0, 1), (1,), (0, 1, 2), (1, 2), (0, 1))
+    >>> lots_left(side, ((2,),)), lots_left(side, ((2, 1), (2, 2))), answers_left(side, ((2, 1), (1, 1, 2)))
+    ((0, 1), (1,), (0, 1))
+    >>> [is_ring_left(side, ((2, 1), (1, 1, 2)), 0, own) for own in ((1, 1, 2), (2, 1, 1, 1), (1, 2), (2, 1, 2, 1, 1), [1, 1, 2])]
+    [True, True, False, True, False]
+    >>> is_ring_left(side, ((2,), (1,)), 1, ring_left(side, ((2,), (1,)), 1)), is_ring_left(some, ((1, 1),), 0, (1,)), is_ring_left(some, ((1, 1),), 0, (3,))
+    (True, True, False)
+    >>> may_be(((2, 1, 2, 1, 2),), (1, 2)), may_be(((1, 1, 2), (2, 1, 2)), (1, 1, 2)), may_be(((), (3, 3)), (3,))
+    (True, False, True)
+    >>> ring_left(some, ((2,),), 0)
+    raises CanNot()
+    >>> ring_left(some, ((2,),), 2)
+    raises NoPlace(place=2)
+    >>> lots_left((((1, 2), (1, 1), (2, 2)), (0, 1, 0)), ((),))
+    raises Unfit()
+"""
+
+SECTIONS = (RINGS, QUESTIONS, DOINGS, ANSWERABLE, WALKERS, STILL)
 
 
 class Examples(Case):
@@ -57,6 +146,12 @@ class Examples(Case):
             names.update(vars(importlib.import_module("roundtold." + file)))
         for text in SECTIONS:
             self.check_examples(text, names)
+
+    def test_readme(self):
+        # A doctest leaves _ behind among the builtins.
+        self.addCleanup(vars(builtins).pop, "_", None)
+        readme = pathlib.Path(__file__).resolve().parent.parent / "README.md"
+        self.assertEqual(doctest.testfile(str(readme), module_relative=False).failed, 0)
 
 
 if __name__ == "__main__":

@@ -12,6 +12,16 @@ INTERFACE = {
     "questions": "is_question(thing), wide_of(question), state_after(question, word), answer(question, word),"
                  " least_question(question), are_alike(one, other), parting(one, other), joined(one, other),"
                  " renamed(question, answers), turned_about(question)",
+    "doings": "doing_of(question, word), then(one, other), doings(question), word_for(question, doing),"
+              " is_under(question, one, other), lots(question), lot_of(question, doing), lots_under(question, lot),"
+              " is_firm(question, lot), firm_lots(question), ring_lot(question, ring), least_ring(question, lot)",
+    "answerable": "is_of_rings(question), is_open(question), needs_mark(question), flaw(question),"
+                  " is_flaw(question, thing), lot_answers(question), ring_answer(question, ring), opened(question)",
+    "walkers": "is_walker(thing), wide_walked(walker), goes_on(walker), played(walker, ring, room, steps),"
+               " said_after(walker, ring, room, steps), words(walker, ring, room, steps), settled(walker, ring, room),"
+               " all_words(walker, ring, room), settles_behind(walker, ring, room), mirrored_walker(walker)",
+    "still": "lots_left(question, stretches), answers_left(question, stretches), ring_left(question, stretches, lot),"
+             " is_ring_left(question, stretches, lot, thing), may_be(stretches, ring)",
 }
 
 

@@ -128,6 +128,23 @@ class Language(unittest.TestCase):
                 if isinstance(node, ast.Name) and hasattr(builtins, node.id):
                     self.assertIn(node.id, BUILTINS)
 
+    def test_no_name_stands_for_two_things(self):
+        for path, _, tree in self.trees():
+            taken = {alias.name for node in tree.body if isinstance(node, ast.ImportFrom) for alias in node.names}
+            taken |= {node.name for node in tree.body if isinstance(node, (ast.ClassDef, ast.FunctionDef))}
+            for node in ast.walk(tree):
+                if isinstance(node, ast.arg):
+                    self.assertNotIn(node.arg, taken, path.name)
+                elif isinstance(node, ast.Name) and isinstance(node.ctx, ast.Store):
+                    self.assertNotIn(node.id, taken, path.name)
+
+    def test_imports_are_used(self):
+        for path, _, tree in self.trees():
+            used = {node.id for node in ast.walk(tree) if isinstance(node, ast.Name)}
+            for node in tree.body:
+                if isinstance(node, ast.ImportFrom):
+                    self.assertLessEqual({alias.name for alias in node.names}, used, path.name)
+
     def test_methods(self):
         own = {node.name for _, _, tree in self.trees() for node in ast.walk(tree) if isinstance(node, ast.FunctionDef)}
         for _, _, tree in self.trees():

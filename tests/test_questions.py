@@ -7,26 +7,10 @@ from roundtold.errors import CanNot, Unfit
 from roundtold.questions import (
     answer, are_alike, is_question, joined, least_question, parting, renamed, state_after, turned_about, wide_of,
 )
-from tests.helper import Case, questions_of, words_to
-
-ONE = (((0,),), (7,))
-ONE_WIDE = (((0, 0, 0),), (0,))
-SOME = (((0, 1), (1, 1)), (0, 1))
-ODD = (((0, 1), (1, 0)), (0, 1))
-FIRST = (((1, 2), (1, 1), (2, 2)), (0, 1, 0))
-LATE = (((1, 2), (1, 2), (2, 2)), (5, 0, 1))
-GREATEST = (((0, 1, 2), (1, 1, 2), (2, 2, 2)), (0, 1, 0))
-# How many letters there are, counted to five; and round six.
-COUNTED = (((1,), (2,), (3,), (4,), (5,), (5,)), (0, 1, 2, 3, 4, 9))
-ROUND = (((1,), (2,), (3,), (4,), (5,), (0,)), (0, 0, 0, 0, 0, 1))
-# Two 2s stand side by side, round the ring.
-SIDE = (((1, 3), (1, 2), (1, 5), (4, 5), (4, 3), (5, 5)), (0, 0, 0, 1, 0, 1))
-# STATES 1, 3, 4 are never come to; 0, 2 and 5 are: 5 answers as 0 does.
-LOST = (((2, 2), (3, 1), (5, 2), (3, 4), (0, 0), (2, 2)), (0, 8, 1, 9, 9, 0))
-
-SMALL = [own for many in (1, 2) for own in questions_of(many, 2, 2)]
-MIDDLE = list(itertools.islice(questions_of(3, 2, 2), 0, None, 37)) + list(questions_of(3, 1, 3))
-SIX_STATES = [COUNTED, ROUND, SIDE, LOST]
+from tests.helper import Case, words_to
+from tests.samples import (
+    COUNTED, FIRST, GREATEST, LATE, LOST, MIDDLE, ODD, ONE, ONE_WIDE, ROUND, SECOND, SIDE, SIX_STATES, SMALL, SOME,
+)
 
 NO_QUESTIONS = (
     None, True, 0, 7, "", "ab", (), [], ((),), ((), ()), ((), (0,)), (((),), (0,)), (((), ()), (0, 1)), ("a", "b"),
@@ -302,8 +286,7 @@ class Made(Case):
         for own in (ONE, ONE_WIDE, LATE, GREATEST, COUNTED, ROUND):
             self.gives(own, turned_about, own)
         # The letter behind the first one, and that ahead of the last one, is 2.
-        second = (((1, 1), (3, 2), (2, 2), (3, 3)), (0, 0, 1, 0))
-        self.gives((((0, 1), (2, 3), (0, 1), (2, 3)), (0, 0, 1, 1)), turned_about, second)
+        self.gives((((0, 1), (2, 3), (0, 1), (2, 3)), (0, 0, 1, 1)), turned_about, SECOND)
 
     def test_turned_about_reads_from_the_end(self):
         for own in SMALL + MIDDLE + [SIDE, LOST, FIRST]:
