@@ -9,7 +9,7 @@ import unittest
 from tests.helper import Case
 
 FILES = (
-    "errors", "rings", "questions", "doings", "answerable", "walkers", "still",
+    "errors", "rings", "questions", "doings", "answerable", "walkers", "still", "grades", "safe", "sure", "few",
 )
 
 # Sections in the document's order: a name is that of the nearest example before it that sets it.
@@ -136,7 +136,83 @@ STILL = """
     raises Unfit()
 """
 
-SECTIONS = (RINGS, QUESTIONS, DOINGS, ANSWERABLE, WALKERS, STILL)
+GRADES = """
+    >>> ranks = (((0, 1, 2), (1, 1, 1), (2, 1, 2)), (0, 1, 2))
+    >>> grades(some), grades(greatest), swing(some), swing(greatest), swing((((0,),), (7,)))
+    ((2, 1), (3, 2, 1), 2, 3, 1)
+    >>> row(greatest, 0), row(greatest, 1), greatest_row(some), ring_grade(greatest, (1, 2, 1)), grade(some, 1)
+    ((0, 1, 2), (1, 2), (0, 1), 2, 1)
+    >>> [rows_from(some, own) for own in (0, 1, 2)], [rows_from(greatest, own) for own in (0, 1)]
+    ([2, 1, 0], [3, 2])
+    >>> [is_row(greatest, own) for own in ((0, 1, 2), (1,), (0, 2), (1, 0), (), [0, 1], (0, True), (3,))]
+    [True, True, False, False, False, False, False, False]
+    >>> grades(ranks), row(ranks, 0), rows_from(ranks, 1), greatest_row(renamed(ranks, (1, 0, 3)))
+    ((3, 1, 2), (0, 2, 1), 1, (0, 2, 1))
+    >>> grade(some, 2)
+    raises NoPlace(place=2)
+    >>> swing(odd)
+    raises Unfit()
+    >>> rows_from(first, 0)
+    raises Unfit()
+"""
+
+SAFE = """
+    >>> words_to_come(greatest, ((),), None), words_to_come(greatest, ((1, 1),), 0), words_to_come(greatest, ((1, 2),), 1), words_to_come(greatest, ((3,),), 0), words_to_come(greatest, ((2,), (3,)), 1)
+    (3, 2, 1, 0, 1)
+    >>> safe(greatest, ((1,),), None, 3), safe(greatest, ((1,),), None, 4), safe(greatest, ((2,),), 0, 2), safe(greatest, ((2,),), 0, 1)
+    ((0,), (0, 1), (0, 1), ())
+    >>> may_be_silent(greatest, ((2,),), 0, 1), may_be_silent(greatest, ((2,),), 0, 2), row_to_come(greatest, ((),), None)
+    (False, True, (0, 1, 2))
+    >>> is_row_to_come(greatest, ((2,),), 0, (1, 2)), is_row_to_come(greatest, ((2,),), 0, (0, 1))
+    (True, False)
+    >>> plain_says(greatest, (1, 2, 1, 3), 0, 5), slip(greatest, (1, 2, 1, 3), 0, (0, 1, None, 0), 3), slip(greatest, (1, 2, 1, 3), 0, (0, 1, None, 0), 2)
+    ((0, 1, 1, 0, 0), None, 0)
+    >>> safe(odd, ((),), None, 3)
+    raises Unfit()
+    >>> plain_says(some, (1, 2), 2, 1)
+    raises NoPlace(place=2)
+"""
+
+SURE = """
+    >>> sure_of(some, ((1, 1),)), sure_of(some, ((1, 1), (1, 2))), sure_of(greatest, ((2, 3, 1),)), sure_of(greatest, ((2,),)), sure_of(side, ((1, 2), (2, 1))), sure_of(side, ((1, 2, 2),))
+    (None, 1, 0, None, None, 1)
+    >>> [is_sure_ring(greatest, own) for own in ((1,), (2, 1), (1, 3, 2))], is_sure_ring(side, (2,)), is_sure_ring(side, (1, 2))
+    ([False, False, True], True, False)
+    >>> [sure_behind(side, (1, 2, 2), own) for own in (0, 1, 2)], latest_sure(side, (1, 2, 2)), sure_behind(side, (2,), 0), latest_sure(side, (1, 2, 1, 1, 2, 2)), latest_sure(some, (1, 1, 2))
+    ([3, 2, 4], (4, 2), 2, (7, 5), (3, 0))
+    >>> surest(some), surest(greatest), surest(side), least_sure(side, 1), least_sure(greatest, 0), least_sure((((0,),), (4,)), 4)
+    ((1,), (0,), (1,), (2, 2), (3,), ())
+    >>> sure_behind(some, (1, 1), 1)
+    raises CanNot()
+    >>> sure_behind(some, (1, 2), 2)
+    raises NoPlace(place=2)
+    >>> least_sure(greatest, 1)
+    raises CanNot()
+"""
+
+FEW = """
+    >>> greatest = (((0, 1, 2), (1, 1, 2), (2, 2, 2)), (0, 1, 0))
+    >>> [served(greatest, own) for own in (0, 1, 2, 3)], serves(greatest, 1, (1, 1, 3)), serves(greatest, 1, (2, 1))
+    ([(), (2,), (1, 2), (0, 1, 2)], True, False)
+    >>> speaks_behind(greatest, 2, (1, 1, 2, 1, 1), 3), speaks_behind(greatest, 3, (1, 1, 2, 1, 1), 3), speaks_behind(greatest, 1, (1, 3), 0)
+    (5, 0, 2)
+    >>> [is_unserved(greatest, 1, ((1, 2), (1,)), own) for own in ((2, 1), (1,), (3, 1, 2), [2, 1])], is_unserved(greatest, 1, ((),), unserved(greatest, 1, ((),)))
+    ([True, False, False, False], True)
+    >>> some = (((0, 1), (1, 1)), (0, 1))
+    >>> walker = walker_for(some, 1)
+    >>> goes_on(walker), settled(walker, (1, 2), 0), settled(walker, (1, 1), 0), all_words(walker, (1, 2), 0), all_words(walker, (1,), 0)
+    (True, 1, None, (1,), ())
+    >>> settled(walker_for(greatest, 2), (1, 2, 3), 1), all_words(walker_for(greatest, 2), (2, 1), 1), all_words(walker_for(greatest, 2), (1,), 0)
+    (0, (1,), ())
+    >>> speaks_behind(greatest, 1, (1, 1, 2, 1, 1), 3)
+    raises CanNot()
+    >>> unserved(greatest, 2, ((1, 2),))
+    raises CanNot()
+    >>> speaks_behind(some, 1, (1, 2), 2)
+    raises NoPlace(place=2)
+"""
+
+SECTIONS = (RINGS, QUESTIONS, DOINGS, ANSWERABLE, WALKERS, STILL, GRADES, SAFE, SURE, FEW)
 
 
 class Examples(Case):

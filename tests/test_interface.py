@@ -22,6 +22,17 @@ INTERFACE = {
                " all_words(walker, ring, room), settles_behind(walker, ring, room), mirrored_walker(walker)",
     "still": "lots_left(question, stretches), answers_left(question, stretches), ring_left(question, stretches, lot),"
              " is_ring_left(question, stretches, lot, thing), may_be(stretches, ring)",
+    "grades": "grade(question, lot), grades(question), ring_grade(question, ring), swing(question),"
+              " row(question, lot), greatest_row(question), is_row(question, thing), rows_from(question, answer)",
+    "safe": "words_to_come(question, stretches, said), row_to_come(question, stretches, said),"
+            " is_row_to_come(question, stretches, said, thing), safe(question, stretches, said, many),"
+            " may_be_silent(question, stretches, said, many), plain_says(question, ring, room, steps),"
+            " slip(question, ring, room, says, many)",
+    "sure": "sure_of(question, stretches), is_sure_ring(question, ring), sure_behind(question, ring, room),"
+            " latest_sure(question, ring), surest(question), least_sure(question, answer)",
+    "few": "served(question, many), serves(question, many, ring), unserved(question, many, stretches),"
+           " is_unserved(question, many, stretches, thing), speaks_behind(question, many, ring, room),"
+           " walker_for(question, many)",
 }
 
 
