@@ -27,10 +27,12 @@ def are_steps(thing, is_step):
     """Whether thing is a tuple, not (), of tuples of as many steps, 1 to 3; is_step(step, many STATES) tells of one."""
     if not isinstance(thing, tuple) or len(thing) == 0 or not isinstance(thing[0], tuple):
         return False
-    many, wide = len(thing), len(thing[0])
-    return 1 <= wide <= GREATEST_WIDE and all(
-        is_tuple_of(row, wide, lambda step: is_step(step, many)) for row in thing
-    )
+    wide = len(thing[0])
+
+    def is_own_step(step):
+        return is_step(step, len(thing))
+
+    return 1 <= wide <= GREATEST_WIDE and all(is_tuple_of(row, wide, is_own_step) for row in thing)
 
 
 def is_machine(thing, is_step, is_told):

@@ -62,7 +62,8 @@ def words_among(triples):
     """The list of the pairs (place, ANSWER) at which these triples first tell of a word."""
     found = []
     last = None
-    for place, (_, _, said) in enumerate(triples):
+    for place, triple in enumerate(triples):
+        said = triple[2]
         if said != last:
             found.append((place, said))
         last = said
@@ -73,7 +74,7 @@ def settled_words(walker, ring, room):
     """The pairs (steps, ANSWER) of all its words; CanNot if they never end."""
     path, again = walked(walker, ring, room)
     # Where triples come again SAID comes again: it settles if that stays as it is.
-    if any([said != path[again][2] for _, _, said in path[again:]]):
+    if any([triple[2] != path[again][2] for triple in path[again:]]):
         raise CanNot()
     return words_among(path)
 
