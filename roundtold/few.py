@@ -7,9 +7,9 @@ from roundtold.rows import open_rows
 from roundtold.still import may_be, ring_with
 
 
-def unserved_among(rows, places, many):
-    """The list of the LOTS left by what stands at these places that so many words do not serve."""
-    return [lot for lot in rows.left(places) if rows.grades[lot] > many]
+def unserved_among(rows, lots, many):
+    """The list of those of these LOTS that so many words do not serve."""
+    return [lot for lot in lots if rows.grades[lot] > many]
 
 
 def served(question, many):
@@ -26,7 +26,7 @@ def serves(question, many, ring):
 def unserved(question, many, stretches):
     """A RING that still may be, but is not served."""
     rows = open_rows(question)
-    found = unserved_among(rows, rows.order.places_of(stretches), many)
+    found = unserved_among(rows, rows.left_by(stretches), many)
     if len(found) == 0:
         raise CanNot()
     return ring_with(rows.order, stretches, found[0])
@@ -44,7 +44,7 @@ def speaks_behind(question, many, ring, room):
     check_room(ring, room)
     if rows.ring_grade(ring) > many:
         raise CanNot()
-    return rows.order.steps_until(ring, room, lambda place: len(unserved_among(rows, [place], many)) == 0)
+    return rows.order.steps_until(ring, room, lambda place: len(unserved_among(rows, rows.left([place]), many)) == 0)
 
 
 def walker_for(question, many):

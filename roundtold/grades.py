@@ -30,8 +30,7 @@ def ring_grade(question, ring):
 
 def swing(question):
     """The greatest GRADE."""
-    rows = open_rows(question)
-    return rows.greatest(rows.left([]))
+    return open_rows(question).swing()
 
 
 def row(question, lot):
@@ -42,8 +41,7 @@ def row(question, lot):
 def greatest_row(question):
     """The least of the longest ROWS."""
     rows = open_rows(question)
-    greatest = rows.greatest(rows.left([]))
-    return rows.least_row([lot for lot in rows.left([]) if rows.grades[lot] == greatest][0])
+    return rows.longest_row(rows.left([]))
 
 
 def is_row(question, thing):

@@ -24,6 +24,20 @@ def words_by_steps(steps):
     return words
 
 
+def least_way(steps, goal):
+    """The least WORD that leads to the place goal from place 0, told alone: all may be too much to be kept."""
+    found = {0: (0, 0)}
+    for place, row in enumerate(steps):
+        for index, after in enumerate(row):
+            if after not in found:
+                found[after] = (place, index + 1)
+    word = []
+    while goal != 0:
+        goal, letter = found[goal]
+        word.append(letter)
+    return tuple(reversed(word))
+
+
 def all_below(ways):
     """The list with for each place a number that has the bits of all places to which ways lead from it, its own too."""
     below = [1 << place for place in range(len(ways))]

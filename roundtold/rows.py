@@ -37,6 +37,11 @@ class Rows:
             row.append([other for other in self.after(row[-1]) if self.grades[other] == wanted][0])
         return tuple(row)
 
+    def longest_row(self, lots):
+        """One of the longest ROWS that begin with one of these LOTS, () without one."""
+        longest = [lot for lot in lots if self.grades[lot] == self.greatest(lots)]
+        return self.least_row(longest[0]) if len(longest) > 0 else ()
+
     def is_row(self, thing):
         """Whether thing is a ROW."""
         if not isinstance(thing, tuple) or len(thing) == 0 or not all([self.is_counted(lot) for lot in thing]):
@@ -46,6 +51,14 @@ class Rows:
     def left(self, places):
         """The list of the LOTS that count and are under the DOINGS at all these places; under () all are."""
         return [lot for lot in self.order.lots_under(places) if self.answers[lot] is not None]
+
+    def left_by(self, stretches):
+        """The list of the LOTS that count and are left by STRETCHES."""
+        return self.left(self.order.places_of(stretches))
+
+    def swing(self):
+        """The greatest GRADE of all, 0 if no LOT counts."""
+        return self.greatest(self.left([]))
 
     def greatest(self, lots):
         """The greatest GRADE of these LOTS, 0 without one."""
@@ -63,9 +76,13 @@ class Rows:
         """How many words are to come if these LOTS are left and said was said last."""
         return self.greatest(self.with_another(lots, said))
 
+    def answers_of(self, lots):
+        """The ascending list of the answers of these LOTS."""
+        return sorted({self.answers[lot] for lot in lots})
+
     def one_answer(self, lots):
         """The answer of all these LOTS; None if they have not one."""
-        answers = sorted({self.answers[lot] for lot in lots})
+        answers = self.answers_of(lots)
         return answers[0] if len(answers) == 1 else None
 
 

@@ -11,11 +11,6 @@ def may_be_said(rows, lots, said, many, told):
     return 1 + rows.to_come(lots, told) <= many
 
 
-def left_of(rows, stretches):
-    """The list of the LOTS that are left by STRETCHES."""
-    return rows.left(rows.order.places_of(stretches))
-
-
 def places_read(order, ring, room, steps):
     """The list of the places of what was read behind each of so many steps; NoPlace if ring has no such room."""
     found = []
@@ -29,16 +24,13 @@ def places_read(order, ring, room, steps):
 def words_to_come(question, stretches, said):
     """The WORDS TO COME."""
     rows = open_rows(question)
-    return rows.to_come(left_of(rows, stretches), said)
+    return rows.to_come(rows.left_by(stretches), said)
 
 
 def row_to_come(question, stretches, said):
     """A ROW of as many LOTS as there are WORDS TO COME, () for none."""
     rows = open_rows(question)
-    others = rows.with_another(left_of(rows, stretches), said)
-    if len(others) == 0:
-        return ()
-    return rows.least_row([lot for lot in others if rows.grades[lot] == rows.greatest(others)][0])
+    return rows.longest_row(rows.with_another(rows.left_by(stretches), said))
 
 
 def is_row_to_come(question, stretches, said, thing):
@@ -46,21 +38,20 @@ def is_row_to_come(question, stretches, said, thing):
     rows = open_rows(question)
     if thing == ():
         return True
-    return rows.is_row(thing) and thing[0] in rows.with_another(left_of(rows, stretches), said)
+    return rows.is_row(thing) and thing[0] in rows.with_another(rows.left_by(stretches), said)
 
 
 def safe(question, stretches, said, many):
     """The set of those answers of RINGS that may be said now."""
     rows = open_rows(question)
-    lots = left_of(rows, stretches)
-    answers = sorted({rows.answers[lot] for lot in rows.left([])})
-    return tuple(told for told in answers if may_be_said(rows, lots, said, many, told))
+    lots = rows.left_by(stretches)
+    return tuple(told for told in rows.answers_of(rows.left([])) if may_be_said(rows, lots, said, many, told))
 
 
 def may_be_silent(question, stretches, said, many):
     """Whether one may be silent."""
     rows = open_rows(question)
-    return may_be_said(rows, left_of(rows, stretches), said, many, None)
+    return may_be_said(rows, rows.left_by(stretches), said, many, None)
 
 
 def plain_says(question, ring, room, steps):

@@ -11,22 +11,28 @@ def lots_left_in(order, stretches):
     return order.firm_under(order.places_of(stretches))
 
 
-def filled(order, word, goal):
-    """A WORD with word in it whose DOING stands at the place goal, one that is under that of word."""
-    start = order.place_of(word)
-    grown = {start: tuple(word)}
+def sides(order, start, goal):
+    """The WORDS that are put ahead of a WORD and behind it: its DOING, at the place start, comes to that at goal."""
+    grown = {start: ((), ())}
     places = [start]
     done = 0
     while goal not in grown:
         place = places[done]
         done += 1
-        longer = [grown[place] + (index + 1,) for index in range(len(order.steps[place]))]
-        longer += [(index + 1,) + grown[place] for index in range(len(order.steps[place]))]
+        ahead, behind = grown[place]
+        longer = [(ahead, behind + (index + 1,)) for index in range(len(order.steps[place]))]
+        longer += [((index + 1,) + ahead, behind) for index in range(len(order.steps[place]))]
         for after, own in zip(order.steps[place] + order.ahead[place], longer):
             if after not in grown:
                 grown[after] = own
                 places.append(after)
     return grown[goal]
+
+
+def filled(order, word, goal):
+    """A WORD with word in it whose DOING stands at the place goal, one that is under that of word."""
+    ahead, behind = sides(order, order.place_of(word), goal)
+    return ahead + tuple(word) + behind
 
 
 def ring_with(order, stretches, lot):

@@ -19,7 +19,7 @@ def steps_to_sure(rows, ring, room):
 def sure_of(question, stretches):
     """The ANSWER of which STRETCHES are sure; None if of none."""
     rows = open_rows(question)
-    return rows.one_answer(rows.left(rows.order.places_of(stretches)))
+    return rows.one_answer(rows.left_by(stretches))
 
 
 def is_sure_ring(question, ring):
@@ -46,7 +46,7 @@ def latest_sure(question, ring):
 def surest(question):
     """The set of the answers of sure RINGS."""
     rows = open_rows(question)
-    return tuple(sorted({rows.answers[lot] for lot in rows.left([]) if rows.grades[lot] == 1}))
+    return tuple(rows.answers_of([lot for lot in rows.left([]) if rows.grades[lot] == 1]))
 
 
 def least_sure(question, answer):

@@ -18,6 +18,21 @@ def is_answer(thing):
     return is_number(thing) and thing >= 0
 
 
+def is_pair(thing):
+    """Whether thing is a tuple of two."""
+    return isinstance(thing, tuple) and len(thing) == 2
+
+
+def ascends(numbers):
+    """Whether each of these numbers is greater than the one ahead of it."""
+    return all([one < other for one, other in zip(numbers, numbers[1:])])
+
+
+def are_answers(thing):
+    """Whether thing is a set, not (), of ANSWERS."""
+    return isinstance(thing, tuple) and len(thing) > 0 and all(is_answer(told) for told in thing) and ascends(thing)
+
+
 def is_tuple_of(thing, many, is_part):
     """Whether thing is a tuple of so many parts for each of which is_part(part) is True."""
     return isinstance(thing, tuple) and len(thing) == many and all(is_part(part) for part in thing)
@@ -37,7 +52,7 @@ def are_steps(thing, is_step):
 
 def is_machine(thing, is_step, is_told):
     """Whether thing is a pair of steps and, for each STATE, something for which is_told is True."""
-    if not isinstance(thing, tuple) or len(thing) != 2:
+    if not is_pair(thing):
         return False
     steps, told = thing
     return are_steps(steps, is_step) and is_tuple_of(told, len(steps), is_told)

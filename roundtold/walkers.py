@@ -3,13 +3,12 @@
 from roundtold.courses import come_behind, course
 from roundtold.errors import CanNot
 from roundtold.rings import check_room
-from roundtold.values import is_answer, is_machine, is_number, is_place
+from roundtold.values import is_answer, is_machine, is_number, is_pair, is_place
 
 
 def is_way(thing, many):
     """Whether thing is a pair (STATE, way), with so many STATES."""
-    return (isinstance(thing, tuple) and len(thing) == 2 and is_place(thing[0], many)
-            and is_number(thing[1]) and -1 <= thing[1] <= 1)
+    return is_pair(thing) and is_place(thing[0], many) and is_number(thing[1]) and -1 <= thing[1] <= 1
 
 
 def is_said(thing):

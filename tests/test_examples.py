@@ -10,6 +10,7 @@ from tests.helper import Case
 
 FILES = (
     "errors", "rings", "questions", "doings", "answerable", "walkers", "still", "grades", "safe", "sure", "few",
+    "promised", "fog", "teams", "rooms",
 )
 
 # Sections in the document's order: a name is that of the nearest example before it that sets it.
@@ -212,7 +213,85 @@ FEW = """
     raises NoPlace(place=2)
 """
 
-SECTIONS = (RINGS, QUESTIONS, DOINGS, ANSWERABLE, WALKERS, STILL, GRADES, SAFE, SURE, FEW)
+PROMISED = """
+    >>> greatest, three = (((0, 1, 2), (1, 1, 2), (2, 2, 2)), (0, 1, 0)), (((0, 0, 1), (1, 1, 1)), (0, 1))
+    >>> no_three, a_three, no_ring = (three, (0,)), (three, (1,)), (three, (7,))
+    >>> kept_lots(greatest, no_three), [promised_swing(greatest, own) for own in (no_three, a_three, (three, (0, 1)), no_ring)]
+    ((0, 1), [2, 1, 3, 0])
+    >>> promised_grade(greatest, no_three, (1, 1)), lowers(greatest, three), is_promise(no_three), is_promise((three, ())), is_promise((odd, (1,)))
+    (2, ((0, 2), (1, 1)), True, False, False)
+    >>> [promised_safe(greatest, no_three, ((1, 2),), None, own) for own in (0, 1, 2)], [promised_safe(greatest, no_three, ((1,),), *own) for own in ((0, 1), (0, 0), (1, 2))]
+    ([(), (1,), (0, 1)], [(0,), (), (0, 1)])
+    >>> promised_safe(greatest, a_three, ((),), None, 2), [promised_safe(greatest, no_ring, ((),), None, own) for own in (0, 1)]
+    ((0, 1), [(), (0, 1)])
+    >>> promised_sure(greatest, a_three, ((),)), promised_sure(greatest, no_three, ((1, 2), ())), promised_sure(greatest, no_three, ((1,),))
+    (0, 1, None)
+    >>> promised_grade(greatest, no_three, (1, 3))
+    raises CanNot()
+    >>> promised_swing(some, no_three)
+    raises Unfit()
+"""
+
+FOG = """
+    >>> either, mixed = (((0, 1, 1), (1, 1, 1)), (0, 1)), (((1, 2), (1, 3), (3, 2), (3, 3)), (0, 0, 0, 1))
+    >>> [is_fog(3, own) for own in ((1, 2, 2), (2, 1, 2), (1, 3, 3), (1, 1))], look((1, 2, 2), (3, 1, 2))
+    ([True, True, False, False], (2, 1, 2))
+    >>> [is_borne(either, own) for own in ((1, 2, 2), (1, 1, 2))], borne_fogs(either), borne_fogs(mixed), is_hidden(either, (1, 1, 2), hidden(either, (1, 1, 2)))
+    ([True, False], [(1, 2, 2), (1, 2, 3)], [(1, 2)], True)
+    >>> fogged(either, (1, 2, 2)), fogged(either, (1, 1, 2)), fogged(mixed, (1, 1))
+    ((((0, 1), (1, 1)), (0, 1)), (((1, 2), (1, 2), (2, 2)), (0, 2, 1)), (((1,), (1,)), (0, 2)))
+    >>> [is_veil(mixed, (1, 1), (1,), own) for own in ((2,), (1, 2), (2, 1, 1))], [is_hidden(mixed, (1, 1), own) for own in (((1, 1), (2, 1)), ((1,), (2, 1)))]
+    ([False, True, True], [True, False])
+    >>> hidden(either, (1, 2, 2))
+    raises CanNot()
+    >>> veil(either, (1, 1, 2), (1, 3))
+    raises CanNot()
+    >>> is_borne(either, (1, 2))
+    raises Unfit()
+"""
+
+TEAMS = """
+    >>> both, here = (((0, 1, 2), (1, 1, 3), (2, 3, 2), (3, 3, 3)), (0, 0, 0, 1)), (1, 2, 1, 3)
+    >>> team_read(here, (1, 3), 2), team_left(both, here, (1, 3), 1), team_left(both, here, (1,), 1), [team_to_come(both, here, (1, 3), own) for own in (0, 1)]
+    (((2, 1), (3, 1)), (3,), (1, 3), [2, 1])
+    >>> team_sure(both, here, (1, 3)), alone_later(both, here, (1, 3)), team_sure(both, here, (0,)), team_sure(both, here, (0, 0, 2))
+    (1, (2, 2), 4, 2)
+    >>> [best_rooms(both, here, own) for own in (1, 2, 3)], best_rooms(both, (3, 2), 1)
+    ([(1,), (1, 3), (0, 1, 3)], (0,))
+    >>> [is_team_doubt(both, here, (1,), 1, own) for own in (((2,), (2, 3)), ((2,), (1, 2)), ((1,), (2, 3)))], is_team_doubt(both, here, (0, 2), 1, team_doubt(both, here, (0, 2), 1))
+    ([True, False, False], True)
+    >>> team_doubt(both, here, (1, 3), 1)
+    raises CanNot()
+    >>> team_sure(both, (1, 2), (0, 1))
+    raises CanNot()
+    >>> team_read(here, (1, 4), 1)
+    raises NoPlace(place=4)
+    >>> best_rooms(both, (1, 2), 3)
+    raises Unfit()
+"""
+
+ROOMS = """
+    >>> twice = (((1, 2), (5, 3), (4, 2), (1, 3), (5, 2), (5, 5)), (0, 1, 0, 0, 0, 1))
+    >>> rings_within(2, (1, 2, 1), 3), rings_within(3, (1,), 2), rings_within(2, (), 1), rings_within(2, (1, 2, 2, 1), 2)
+    ([(1, 2), (1, 2, 1)], [(1,), (1, 1), (1, 2), (1, 3)], [(1,), (2,)], [])
+    >>> answers_within(twice, (1, 2), 3), answers_within(twice, (1, 2, 1, 2), 3), answers_within(twice, (1, 2, 2, 1), 2), answers_within(twice, (), 1)
+    ((0, 1), (0,), (), (0, 1))
+    >>> some, all_one = (((0, 1), (1, 1)), (0, 1)), (((0, 0),), (7,))
+    >>> [sure_within(twice, own) for own in (1, 2, 3, 4)], [sure_within(some, own) for own in (1, 2, 5)], sure_within(all_one, 6)
+    ([1, 2, 4, 5], [1, 2, 5], 0)
+    >>> [is_last_pair(twice, 3, own) for own in (((1, 2), (1, 2, 1)), ((1, 2, 1), (1, 2)), ((1, 2), (1, 2, 2)), ((1, 2),), ((1, 2), [1, 2, 1]))]
+    [True, True, False, False, False]
+    >>> is_last_pair(some, 5, last_pair(some, 5)), is_last_pair(some, 2, ((1, 2), (1, 1))), is_last_pair(some, 2, ((2,), (1,)))
+    (True, True, False)
+    >>> last_pair(all_one, 6)
+    raises CanNot()
+    >>> sure_within((((1, 2), (1, 1), (2, 2)), (0, 1, 0)), 2)
+    raises Unfit()
+"""
+
+SECTIONS = (
+    RINGS, QUESTIONS, DOINGS, ANSWERABLE, WALKERS, STILL, GRADES, SAFE, SURE, FEW, PROMISED, FOG, TEAMS, ROOMS,
+)
 
 
 class Examples(Case):

@@ -33,6 +33,18 @@ INTERFACE = {
     "few": "served(question, many), serves(question, many, ring), unserved(question, many, stretches),"
            " is_unserved(question, many, stretches, thing), speaks_behind(question, many, ring, room),"
            " walker_for(question, many)",
+    "promised": "is_promise(thing), kept_lots(question, promise), promised_swing(question, promise), "
+                "promised_grade(question, promise, ring), promised_safe(question, promise, stretches, said, many), "
+                "promised_sure(question, promise, stretches), lowers(question, other)",
+    "fog": "is_fog(wide, thing), look(fog, word), is_borne(question, fog), hidden(question, fog), "
+           "is_hidden(question, fog, thing), fogged(question, fog), veil(question, fog, ring), is_veil(question, "
+           "fog, ring, thing), borne_fogs(question)",
+    "teams": "team_read(ring, rooms, steps), team_left(question, ring, rooms, steps), team_to_come(question, ring, "
+             "rooms, steps), team_sure(question, ring, rooms), alone_later(question, ring, rooms), "
+             "best_rooms(question, ring, many), team_doubt(question, ring, rooms, steps), is_team_doubt(question, "
+             "ring, rooms, steps, thing)",
+    "rooms": "rings_within(wide, word, many), answers_within(question, word, many), sure_within(question, many), "
+             "last_pair(question, many), is_last_pair(question, many, thing)",
 }
 
 
