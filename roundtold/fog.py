@@ -74,11 +74,11 @@ def is_hidden(question, fog, thing):
 def looked(order, fog):
     """The pair of the tuples of places of all WORDS with one look, that of () first, and the steps among them."""
     letters = [[at for at, own in enumerate(fog) if own == told] for told in range(1, max(fog) + 1)]
-    return come_to(
-        (0,), len(letters),
-        lambda places, index: tuple(sorted({order.steps[place][at] for place in places for at in letters[index]})),
-        MOST_DOINGS + 1,
-    )
+
+    def follow(places, index):
+        return tuple(sorted({order.steps[place][letter] for place in places for letter in letters[index]}))
+
+    return come_to((0,), len(letters), follow, MOST_DOINGS + 1)
 
 
 def powers_of(steps, at, word):

@@ -10,7 +10,7 @@ from tests.helper import Case
 
 FILES = (
     "errors", "rings", "questions", "doings", "answerable", "walkers", "still", "grades", "safe", "sure", "few",
-    "promised", "fog", "teams", "rooms",
+    "promised", "fog", "teams", "rooms", "judged", "texts", "judge", "desk",
 )
 
 # Sections in the document's order: a name is that of the nearest example before it that sets it.
@@ -289,8 +289,77 @@ ROOMS = """
     raises Unfit()
 """
 
+JUDGED = """
+    >>> plain = ((((0, 1), (1, 1)), ((1, 1), (1, 1))), (0, 1))
+    >>> flip, slow = ((((0, 1), (1, 1)), ((0, 1), (1, 1))), (0, 1)), ((((0, 1), (1, 1)), ((2, 1), (1, 1)), ((2, 1), (2, 1))), (0, None, 1))
+    >>> is_right(some, plain), is_right(some, flip), wrong(some, flip), is_right(some, slow), wrong(some, slow)
+    (True, False, (1, 2), False, (2,))
+    >>> most_words(plain), most_words(flip), is_pump(flip, ((1, 2), (1, 2))), is_pump(flip, ((), (1, 2))), is_pump(plain, ((1,), (2,)))
+    (2, None, True, False, False)
+    >>> is_wrong(some, flip, ((1, 2), 1)), is_wrong(some, flip, ((2, 2), 0)), is_wrong(some, plain, ((1, 2), 0)), is_wrong(some, flip, ((1, 2), 2))
+    (True, False, False, False)
+    >>> is_against(some, plain, against(some, plain)), is_against(some, plain, ((1, 2), 0)), is_against(some, plain, ((1, 2), 1)), is_against(some, flip, against(some, flip))
+    (True, True, False, True)
+    >>> stands = ((((0, 0), (1, 0)), ((1, 0), (1, 0))), (0, 1))
+    >>> is_against(some, stands, against(some, stands)), is_wrong(some, stands, ((1, 2), 0))
+    (True, True)
+    >>> wrong(some, plain)
+    raises CanNot()
+    >>> is_right(some, stands)
+    raises Unfit()
+"""
+
+TEXTS = r"""
+    >>> some, lazy = (((0, 1), (1, 1)), (0, 1)), ((((0, -1), (1, 0)), ((1, 1), (0, 1))), (None, 3))
+    >>> question_told(some), read_question(question_told(some)) == some
+    ('question\nstate 0 0 1\nstate 1 1 1', True)
+    >>> walker_told(lazy), read_walker(walker_told(lazy)) == lazy
+    ('walker\nstate - 0< 1=\nstate 3 1> 0>', True)
+    >>> promise_told((some, (0, 1))), read_promise("promise 1\nquestion\nstate 7 0")
+    ('promise 0 1\nquestion\nstate 0 0 1\nstate 1 1 1', ((((0,),), (7,)), (1,)))
+    >>> ring_told((1, 2, 2)), read_ring(2, "ring 2 1"), stretches_told(((1,), ())), read_stretches(1, "stretch")
+    ('ring 1 2 2', (2, 1), 'stretch 1\nstretch', ((),))
+    >>> fog_told((1, 2, 1)), read_fog("fog 2 1")
+    ('fog 1 2 1', (2, 1))
+    >>> read_ring(2, "ring 1 3")
+    raises BadText(line=1)
+    >>> read_question("question\nstate 0 0 2\nstate 1 1 1")
+    raises BadText(line=4)
+    >>> read_walker("walker\nstate 0 0>\nstate 0 0")
+    raises BadText(line=3)
+    >>> read_promise("promise 1 0\nquestion\nstate 0 0")
+    raises BadText(line=1)
+"""
+
+JUDGE = """
+    >>> some, odd = (((0, 1), (1, 1)), (0, 1)), (((0, 1), (1, 0)), (0, 1))
+    >>> verdicts((("open", some), ("open", odd), ("alike", some, odd), ("left", some, ((1,),), 0), ("left", some, ((2,),), 0)), ((), ("power", (2,), 2), (2, 2), (1, 1), ()))
+    ['for', 'against', 'against', 'for', 'against']
+    >>> verdicts((("come", some, ((1,),), None, 2), ("come", some, ((1,),), 0, 2), ("served", some, ((2,),), 1), ("served", some, ((1,),), 1)), ((0, 1), (), (), (1,)))
+    ['for', 'against', 'for', 'against']
+    >>> plain = ((((0, 1), (1, 1)), ((1, 1), (1, 1))), (0, 1))
+    >>> verdicts((("right", some, plain), ("most", plain, 2), ("most", plain, 1)), ((), (), 2))
+    ['for', 'for', 'against']
+    >>> comes_of(("come", some, ((1,),), None, 1), (("come", some, ((1,), (2,)), None, 2),)), comes_of(("served", some, ((1,),), 2), (("served", some, ((1,), (2,)), 1),))
+    (True, False)
+    >>> is_so(("served", odd, ((),), 1))
+    raises Unfit()
+"""
+
+DESK = r"""
+    >>> desk("come\nsafe\nring\n ring 1 1 2\ngo 1\nroom\nleft\nsafe\nsilent\ncome\nsay 0\ncome\nsafe\nwords\ngo 2\nsure\nsafe\nsay 1\nwords\nsay 0\nanswer\nundo\nsaid")
+    ['2', '0', 'done', 'done', '1', '0 1', '0', 'yes', '2', 'done', '1', '0', '1', 'done', '1', '0 1', 'done', '0', 'refused CanNot', '1', 'say', '0']
+    >>> desk("walker\n walker\n state 0 0> 1>\n state 1 1> 1>\nring\n ring 1 2\nplays 1\nplays 2\nsettles\nwrong\nbegin 1\nplays 1\nbegin 2\ngo 1\nroom\nundo\nleft\nwalker\n walker\n state - 0=")
+    ['done', 'done', '0', '1', '1', 'refused CanNot', 'done', '1', 'refused NoPlace', 'done', '0', 'go', '0 1', 'refused Unfit']
+    >>> is_request("go 3"), is_request("go"), is_request("ring"), is_request("walker\n x"), is_request("say 01"), is_request("trap")
+    (True, False, False, True, False, True)
+    >>> desk("room\n\nleft")
+    raises BadText(2)
+"""
+
 SECTIONS = (
     RINGS, QUESTIONS, DOINGS, ANSWERABLE, WALKERS, STILL, GRADES, SAFE, SURE, FEW, PROMISED, FOG, TEAMS, ROOMS,
+    JUDGED, TEXTS, JUDGE, DESK,
 )
 
 

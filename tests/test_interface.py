@@ -45,6 +45,15 @@ INTERFACE = {
              "ring, rooms, steps, thing)",
     "rooms": "rings_within(wide, word, many), answers_within(question, word, many), sure_within(question, many), "
              "last_pair(question, many), is_last_pair(question, many, thing)",
+    "judged": "is_right(question, walker), wrong(question, walker), is_wrong(question, walker, thing), "
+              "most_words(walker), pump(walker), is_pump(walker, thing), against(question, walker), "
+              "is_against(question, walker, thing)",
+    "texts": "ring_told(ring), stretches_told(stretches), question_told(question), walker_told(walker), "
+             "promise_told(promise), fog_told(fog), read_ring(wide, text), read_stretches(wide, text), "
+             "read_question(text), read_walker(text), read_promise(text), read_fog(text)",
+    "judge": "is_claim(thing), is_so(claim), paper(claim), is_paper_for(claim, thing), is_paper_against(claim, "
+             "thing), verdicts(claims, things), comes_of(claim, claims), first_false(claims)",
+    "desk": "desk(text), is_request(thing)",
 }
 
 
