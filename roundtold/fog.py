@@ -119,10 +119,9 @@ def veil(question, fog, ring):
 def is_veil(question, fog, ring, thing):
     """Whether thing is such a RING."""
     fog_order(question, fog)
-    if not is_ring(wide_of(question), thing) or len(thing) % len(ring) > 0:
+    if not is_ring(wide_of(question), thing) or answer(question, thing) == answer(question, ring):
         return False
-    return (look(fog, thing) == look(fog, ring) * (len(thing) // len(ring))
-            and answer(question, thing) != answer(question, ring))
+    return look(fog, thing) == look(fog, ring) * (len(thing) // len(ring))
 
 
 def borne_fogs(question):

@@ -2,16 +2,10 @@
 
 from roundtold.answerable import is_open, open_order
 from roundtold.errors import CanNot
-from roundtold.questions import answer, check_as_wide, is_question, joined
+from roundtold.questions import answer, is_question, joined
 from roundtold.rows import Rows
 from roundtold.safe import may_be_said
 from roundtold.values import are_answers, is_pair
-
-
-def order_of_both(question, other):
-    """The Order of both together, behind the errors of both."""
-    check_as_wide(question, other)
-    return open_order(joined(question, other))
 
 
 def answers_by(order, question):
@@ -34,7 +28,7 @@ def kept_rows(order, question, promise):
 def promised_rows(question, promise):
     """The Rows of the kept LOTS, behind all errors."""
     open_order(question)
-    return kept_rows(order_of_both(question, promise[0]), question, promise)
+    return kept_rows(open_order(joined(question, promise[0])), question, promise)
 
 
 def is_promise(thing):
@@ -78,6 +72,6 @@ def lowers(question, other):
     """The tuple with for each answer by other the pair of it and the SWING that is promised with it."""
     open_order(question)
     open_order(other)
-    order = order_of_both(question, other)
+    order = open_order(joined(question, other))
     every = told_of(answers_by(order, other))
     return tuple((told, kept_rows(order, question, (other, (told,))).swing()) for told in every)

@@ -25,7 +25,9 @@ TOO_MANY_SETS = parted(ones(9), ones(2))
 FOGS = {wide: [fog for fog in itertools.product(range(1, wide + 1), repeat=wide) if set(fog) == set(range(1, max(fog) + 1))]
         for wide in (1, 2, 3)}
 RINGS = {1: words_to(1, 4, 1), 2: words_to(2, 4, 1), 3: words_to(3, 3, 1)}
-QUESTIONS = OPEN + MADE
+# Whether a 3 stands and no 1: behind a 1 no letter does anything.
+SPOILT = (((1, 0, 2), (1, 1, 1), (1, 2, 2)), (0, 0, 1))
+QUESTIONS = OPEN + MADE + [SPOILT]
 
 
 def width(question):
@@ -106,7 +108,8 @@ class Borne(Case):
             (EITHER, (1, 2, 2), True), (EITHER, (1, 1, 2), False), (EITHER, (2, 1, 1), True), (EITHER, (1, 2, 3), True),
             (EITHER, (1, 1, 1), False), (MIXED, (1, 1), False), (MIXED, (2, 1), True), (ONE_WIDE, (1, 1, 1), True), (ONE, (1,), True),
             (GREATEST, (1, 2, 1), False), (GREATEST, (2, 2, 1), False), (with_blank(SOME), (1, 2, 1), True), (with_blank(SOME), (1, 2, 2), False),
-            (BOTH, (1, 2, 2), False), (LARGE, (1, 2, 3), True), (LARGE, (1, 2, 2), False),
+            (BOTH, (1, 2, 2), False), (LARGE, (1, 2, 3), True), (LARGE, (1, 2, 2), False), (SPOILT, (1, 2, 2), False), (SPOILT, (1, 1, 2), False),
+            (SPOILT, (1, 2, 3), True),
         ):
             self.gives(so, is_borne, question, fog)
 

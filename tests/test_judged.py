@@ -11,7 +11,7 @@ from roundtold.grades import swing
 from roundtold.judged import (
     against, is_against, is_pump, is_right, is_wrong, most_words, pump, wrong,
 )
-from roundtold.walkers import mirrored_walker
+from roundtold.walkers import is_walker, mirrored_walker
 from tests import oracle
 from tests.helper import Case, words_to
 from tests.samples import (
@@ -50,6 +50,21 @@ def goer(rows, says):
 # As many pairs of a DOING and a kind as are worked with by ALL_ZERO, and one more.
 MOST_PAIRS = goer(((4, 1), (3, 3), (0, 3), (1, 4), (2, 2), (7, 5), (6, 6), (5, 6)), (None, 0, None, None, 1, 0, 1, None))
 TOO_MANY_PAIRS = goer(((0, 4), (2, 5), (4, 6), (0, 3), (7, 3), (6, 0), (5, 5), (1, 2)), (1, None, 0, None, 0, 0, 1, None))
+# They go to and fro before they say what GREATEST asks for: what they see on the way tells what they do.
+WANDERERS = (
+    ((((4, 1), (4, 0), (3, 1)), ((3, 1), (3, 1), (1, 1)), ((1, -1), (1, 0), (0, -1)), ((4, 1), (4, 1), (4, 0)), ((1, 1), (0, -1), (1, 1))), (1, None, 1, 0, None)),
+    ((((4, 1), (4, 0), (4, 1)), ((3, 1), (3, 1), (1, 1)), ((1, -1), (1, 0), (2, -1)), ((4, 1), (4, 1), (4, 0)), ((1, 1), (0, -1), (1, 1))), (1, None, 0, 0, None)),
+    ((((4, 1), (4, 0), (2, 1)), ((3, 1), (2, 1), (1, -1)), ((2, 1), (3, -1), (2, -1)), ((4, 1), (4, 1), (2, 1)), ((1, 1), (0, -1), (1, 0))), (1, None, 0, 0, None)),
+    ((((4, 1), (4, 0), (1, 1)), ((3, 1), (0, 1), (2, 1)), ((2, 1), (3, -1), (2, -1)), ((4, 1), (4, 1), (2, 1)), ((1, 1), (0, -1), (2, 1))), (1, None, 0, 0, None)),
+    ((((4, 1), (4, 1), (1, 1)), ((3, 1), (4, 0), (3, 1)), ((3, -1), (3, -1), (2, 0)), ((4, 1), (4, 1), (4, 1)), ((1, 1), (0, -1), (4, 0))), (1, None, 1, 0, None)),
+    ((((4, 1), (3, 0), (1, 1)), ((3, 1), (2, 1), (4, -1)), ((1, 0), (2, -1), (0, -1)), ((4, 1), (4, 1), (0, 1)), ((3, 1), (0, -1), (1, 1))), (1, None, None, 0, None)),
+    ((((4, 1), (2, 1), (4, -1)), ((3, 1), (1, 1), (4, 1)), ((2, 1), (0, -1), (3, -1)), ((4, 1), (4, 1), (0, 0)), ((1, 1), (2, 1), (1, 1))), (1, 0, None, 0, None)),
+    ((((4, -1), (4, 0), (3, 1)), ((3, 1), (4, 1), (1, -1)), ((2, 0), (4, 1), (0, 1)), ((4, 1), (1, 1), (0, 0)), ((1, 1), (2, 1), (3, 1))), (None, None, 1, 0, None)),
+    ((((3, 0), (4, 1), (3, 1)), ((2, 1), (1, -1), (4, 0)), ((4, 1), (1, 1), (4, -1)), ((3, 1), (2, 1), (2, -1)), ((1, -1), (4, 1), (2, 1))), (0, 1, None, 0, 0)),
+    ((((3, 0), (3, 0), (3, 1)), ((2, 1), (1, -1), (3, -1)), ((4, 1), (1, 1), (4, -1)), ((3, 1), (2, 1), (2, -1)), ((1, -1), (4, 1), (3, -1))), (0, 1, None, 0, 0)),
+    ((((3, 1), (4, 1), (3, -1)), ((2, 0), (2, -1), (0, 1)), ((4, 1), (3, 1), (3, -1)), ((3, 1), (2, 1), (0, 0)), ((1, -1), (4, 1), (2, -1))), (1, 1, None, 0, None)),
+    ((((4, -1), (1, 1), (4, 1)), ((1, 1), (3, 1), (4, -1)), ((4, 1), (4, -1), (4, 1)), ((3, 1), (3, -1), (1, 0)), ((0, 1), (4, 1), (2, -1))), (None, None, None, 1, 0)),
+)
 QUESTIONS = OPEN + MADE
 RINGS = {1: words_to(1, 6, 1), 2: words_to(2, 6, 1), 3: words_to(3, 4, 1)}
 
@@ -387,6 +402,12 @@ class Against(Case):
                 # The same, going back: it reads all RINGS from their ends.
                 self.check(question, mirrored_walker(walker))
                 self.check(question, dawdler(walker))
+
+    def test_wanderers(self):
+        for walker in WANDERERS:
+            self.assertTrue(is_walker(walker))
+            for own in (walker, mirrored_walker(walker), dawdler(walker)):
+                self.check(GREATEST, own)
 
     def test_right_ones_say_so_many_words(self):
         for question in QUESTIONS:
